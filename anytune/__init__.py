@@ -1,0 +1,1 @@
+"""Anytune: patterns in endless time with holes for tunes."""
