@@ -64,6 +64,7 @@ def _mirrored_cell(cell):
     """A cell of a round, in the mirrored round."""
     begin, end, routes, table = cell
     moved = []
+    # The new cell begins at 1 - end of its round, from where a route leads to the old end.
     for hole, up, slope, speed, lag in routes:
         moved.append((hole, up, -slope, speed, lag + speed * (begin + end - 1) + slope * (end - begin)))
     kept, shown = arranged(moved, table)
@@ -83,6 +84,7 @@ def _picked_cell(cell, index, step):
     """A cell of a round, in the round that shows it."""
     begin, end, routes, table = cell
     moved = []
+    # The new cell begins at c = k + begin, the old one at c + k * (step - 1) + index, and k is c - begin.
     for hole, up, slope, speed, lag in routes:
         moved.append((hole, up, slope, speed * step, lag + speed * index - speed * begin * (step - 1)))
     return begin, end, moved, table
@@ -105,6 +107,7 @@ def in_turns(loops):
 def _turned_cell(cell, number, many):
     """A cell of a round of the loop with this number, in the round that shows it."""
     begin, end, routes, table = cell
+    # The new cell begins at c = k + begin, the old one at j + begin, and k is j * many + number.
     gap = begin - (begin + number).over(many)
     moved = [(hole, up, slope, speed.over(many), lag + speed * gap) for hole, up, slope, speed, lag in routes]
     return begin, end, moved, table

@@ -35,17 +35,9 @@ def needed(routes, table):
 
 
 def arranged(routes, table):
-    """The routes in ascending order, none of them twice, with their table."""
+    """The routes, which are different, in ascending order, with their table."""
     order = ascending([(route, 1 << place) for place, route in enumerate(routes)])
-    kept = []
-    weights = []
-    for route, weight in order:
-        if kept and kept[-1] == route:
-            weights[-1] = weights[-1] + weight
-        else:
-            kept.append(route)
-            weights.append(weight)
-    return kept, spread(table, weights)
+    return [route for route, _ in order], spread(table, [weight for _, weight in order])
 
 
 def combined(rule, first, first_table, second, second_table):

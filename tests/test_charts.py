@@ -73,7 +73,12 @@ class ChartsOfPieces(unittest.TestCase):
 
     def test_choices(self):
         self.assert_chart(
-            X.only(Moment(1, 4), Moment(3, 4)), "rounds 1", "cell 0 1/4 0", "cell 1/4 3/4 01", "route x 0 1 1/4 1", "cell 3/4 1 0"
+            X.only(Moment(1, 4), Moment(3, 4)),
+            "rounds 1",
+            "cell 0 1/4 0",
+            "cell 1/4 3/4 01",
+            "route x 0 1 1/4 1",
+            "cell 3/4 1 0",
         )
         self.assert_chart(X.only(0, 1, rounds=2), "rounds 2", "cell 0 1 01", "route x 0 1 0 1", "cell 1 2 0")
         self.assert_chart(X.only(0, 2, rounds=2), "rounds 1", "cell 0 1 01", "route x 0 1 0 1")
@@ -88,7 +93,9 @@ class ChartsOfPieces(unittest.TestCase):
         self.assert_chart(X.only(0, 1, rounds=2).nth(1, 2), "rounds 1", "cell 0 1 0")
         self.assert_chart(X.only(0, 1, rounds=2).nth(2, 2), "rounds 1", "cell 0 1 01", "route x 0 1 2 2")
         self.assert_chart(turns(X), "rounds 1", "cell 0 1 01", "route x 0 1 0 1")
-        self.assert_chart(turns(X, X), "rounds 2", "cell 0 1 01", "route x 0 1 0 1/2", "cell 1 2 01", "route x 0 1 0 1/2")
+        self.assert_chart(
+            turns(X, X), "rounds 2", "cell 0 1 01", "route x 0 1 0 1/2", "cell 1 2 01", "route x 0 1 0 1/2"
+        )
 
     def test_the_examples_of_the_document(self):
         self.assertEqual(
@@ -103,7 +110,15 @@ class ChartsOfPieces(unittest.TestCase):
         piece = (X << 1) ^ (Y - X) ^ (X * 2) ^ (X + 1) ^ (X + -1) ^ X.nth(0, 2)
         self.assertEqual(
             str(chart(piece)).split("\n")[2:],
-            ["route x -1 1 0 1", "route x 0 1 0 1", "route x 0 1 0 2", "route x 0 1 1 1", "route x 0 2 0 2", "route x 1 1 0 1", "route y 0 1 0 1"],
+            [
+                "route x -1 1 0 1",
+                "route x 0 1 0 1",
+                "route x 0 1 0 2",
+                "route x 0 1 1 1",
+                "route x 0 2 0 2",
+                "route x 1 1 0 1",
+                "route y 0 1 0 1",
+            ],
         )
         self.assert_chart((Y >> 1) - (Y << 1), "rounds 1", "cell 0 1 0100", "route y 0 1 -1 1", "route y 0 1 1 1")
         self.assert_chart((Y << 1) - (Y >> 1), "rounds 1", "cell 0 1 0010", "route y 0 1 -1 1", "route y 0 1 1 1")
@@ -113,7 +128,13 @@ class ChartsOfPieces(unittest.TestCase):
         self.assert_chart(X.every(5, X), "rounds 1", "cell 0 1 01", "route x 0 1 0 1")
         # Cells are not joined over the end of the rounds.
         self.assert_chart(
-            X.only(Moment(1, 4), HALF) ^ X, "rounds 1", "cell 0 1/4 01", "route x 0 1 0 1", "cell 1/4 1/2 0", "cell 1/2 1 01", "route x 0 1 1/2 1"
+            X.only(Moment(1, 4), HALF) ^ X,
+            "rounds 1",
+            "cell 0 1/4 01",
+            "route x 0 1 0 1",
+            "cell 1/4 1/2 0",
+            "cell 1/2 1 01",
+            "route x 0 1 1/2 1",
         )
 
     def test_rounds_are_as_few_as_possible(self):
@@ -128,6 +149,20 @@ class ChartsOfPieces(unittest.TestCase):
         self.assertEqual(len(chart(X.only(0, HALF) * 3).cells), 6)
         self.assertEqual(chart(X.only(0, HALF) * 60 // 60), chart(X.only(0, HALF)))
         self.assertEqual(chart(turns(X, Y)).rounds, 2)
+
+    def test_rounds_are_as_few_as_possible_with_cells_over_their_ends(self):
+        for piece in (
+            X.only(Moment(1, 4), HALF),
+            X.only(0, HALF) | Y.only(HALF, Moment(3, 4)),
+            X.only(Moment(1, 3), 2, rounds=3) << Moment(1, 5),
+            (X.only(0, HALF) | Y) >> Moment(1, 3),
+            (X.only(0, HALF) * 3) << Moment(1, 12),
+        ):
+            for step in (2, 3, 4):
+                self.assertEqual(chart(piece.every(step, piece)), chart(piece))
+        self.assertEqual(
+            chart(((X.only(0, HALF) * 3 << Moment(1, 12)) | Y) // 3), chart((X.only(0, HALF) << Moment(1, 4)) | Y // 3)
+        )
 
     def test_attributes(self):
         told = chart(turns(X, -Y << Moment(1, 3)))
@@ -148,8 +183,15 @@ class ChartsOfPieces(unittest.TestCase):
 
     def test_paces_of_long_numbers(self):
         pace = Moment(LONG + 1, LONG - 1)
-        self.assert_chart((X | (Y << pace)) * pace, "rounds 1", "cell 0 1 0111", f"route x 0 {pace} 0 {pace}", f"route y 0 {pace} {pace} {pace}")
+        self.assert_chart(
+            (X | (Y << pace)) * pace,
+            "rounds 1",
+            "cell 0 1 0111",
+            f"route x 0 {pace} 0 {pace}",
+            f"route y 0 {pace} {pace} {pace}",
+        )
         self.assertEqual(chart((-X) * pace // pace), chart(-X))
+        self.assertEqual(chart(((-X) * pace | Y) // pace), chart(-X | Y // pace))
 
     def test_pieces_stay(self):
         piece = X | Y
@@ -166,7 +208,14 @@ class Equality(unittest.TestCase):
 
     def test_one_part_differs(self):
         told = chart(X.only(0, HALF))
-        others = [X, X.only(0, Moment(1, 3)), Y.only(0, HALF), (X + 1).only(0, HALF), (X << 1).only(0, HALF), (X * 2).only(0, HALF)]
+        others = [
+            X,
+            X.only(0, Moment(1, 3)),
+            Y.only(0, HALF),
+            (X + 1).only(0, HALF),
+            (X << 1).only(0, HALF),
+            (X * 2).only(0, HALF),
+        ]
         others = others + [X.nth(0, 2).only(0, HALF), X.only(0, HALF, rounds=2), X - X.only(0, HALF), Piece.silence()]
         for other in others:
             self.assertIs(told == chart(other), False)
@@ -224,7 +273,9 @@ class RandomCharts(unittest.TestCase):
 
     def repeats(self, told, rounds):
         """Whether fewer rounds would do: whether each moment has the same routes so many rounds later."""
-        edges = sorted({(fraction(cell.begin) + k * rounds) % told.rounds for cell in told.cells for k in range(told.rounds)})
+        edges = sorted(
+            {(fraction(cell.begin) + k * rounds) % told.rounds for cell in told.cells for k in range(told.rounds)}
+        )
         middles = [(low + high) / 2 for low, high in zip(edges, [*edges[1:], Fraction(told.rounds)])]
         return all(self.routes_at(told, t, 0) == self.routes_at(told, t + rounds, rounds) for t in middles)
 
@@ -269,7 +320,9 @@ class Pieces(unittest.TestCase):
     def test_pieces_of_read_charts(self):
         piece = Chart.read(lines("rounds 1", "cell 0 1 0110", "route b 1 1 0 1", "route a 0 -1/2 3 60")).piece()
         self.assertEqual(piece.holes, ["a", "b"])
-        self.assertEqual(str(chart(piece)), lines("rounds 1", "cell 0 1 0110", "route a 0 -1/2 3 60", "route b 1 1 0 1"))
+        self.assertEqual(
+            str(chart(piece)), lines("rounds 1", "cell 0 1 0110", "route a 0 -1/2 3 60", "route b 1 1 0 1")
+        )
 
 
 class Read(unittest.TestCase):
@@ -290,7 +343,9 @@ class Read(unittest.TestCase):
 
     def test_rounds_may_be_too_many(self):
         self.assert_read(lines("rounds 99", "cell 0 99 0"), "rounds 1", "cell 0 1 0")
-        self.assert_read(lines("rounds 4", "cell 0 4 01", "route x 0 1 0 1"), "rounds 1", "cell 0 1 01", "route x 0 1 0 1")
+        self.assert_read(
+            lines("rounds 4", "cell 0 4 01", "route x 0 1 0 1"), "rounds 1", "cell 0 1 01", "route x 0 1 0 1"
+        )
         text = lines("rounds 2", "cell 0 1 01", "route x 0 -1 1 1", "cell 1 2 01", "route x 0 -1 2 1")
         self.assert_read(text, "rounds 1", "cell 0 1 01", "route x 0 -1 1 1")
         # The second cell goes on, but not the next round.
@@ -314,7 +369,9 @@ class Read(unittest.TestCase):
         self.assert_read(text, "rounds 1", "cell 0 1 0010", "route x 0 1 0 1", "route y 0 1 0 1")
         names = [f"route {name} 0 1 0 1" for name in "fedcba"]
         table = "0" + "1" * 31 + "0" * 32
-        self.assert_read(lines("rounds 1", f"cell 0 1 {table}", *names), "rounds 1", "cell 0 1 " + "00" + "10" * 31, *names[::-1])
+        self.assert_read(
+            lines("rounds 1", f"cell 0 1 {table}", *names), "rounds 1", "cell 0 1 " + "00" + "10" * 31, *names[::-1]
+        )
 
     def test_nearly_texts_of_charts(self):
         head, cell, route = "rounds 1", "cell 0 1 01", "route x 0 1 0 1"
@@ -358,33 +415,117 @@ class Read(unittest.TestCase):
 
     def test_wrong_first_lines(self):
         for head in (
-            "rounds 0", "rounds 100", "rounds -1", "rounds 01", "rounds +1", "rounds 1/1", "rounds 3/2", "rounds 2/2", "rounds",
-            "rounds ", "rounds  1", "rounds 1 ", " rounds 1", "rounds\t1", "round 1", "Rounds 1", "rounds 1 1", "rounds x",
-            "rounds 1\r", f"rounds {LONG}", "cell 0 1 0",
+            "rounds 0",
+            "rounds 100",
+            "rounds -1",
+            "rounds 01",
+            "rounds +1",
+            "rounds 1/1",
+            "rounds 3/2",
+            "rounds 2/2",
+            "rounds",
+            "rounds ",
+            "rounds  1",
+            "rounds 1 ",
+            " rounds 1",
+            "rounds\t1",
+            "round 1",
+            "Rounds 1",
+            "rounds 1 1",
+            "rounds x",
+            "rounds 1\r",
+            f"rounds {LONG}",
+            "cell 0 1 0",
         ):
             self.assert_no_chart(lines(head, "cell 0 1 0"), 1)
 
     def test_wrong_cells(self):
         for cell in (
-            "cell 0 1", "cell 0 1 0 ", " cell 0 1 0", "cell  0 1 0", "cell 0 1  0", "cell 0 1 ", "cell 0 1 1", "cell 0 1 10", "cell 0 1 001",
-            "cell 0 1 00000", "cell 0 1 02", "cell 0 1 0a", "cell 0 1 " + "0" * 128, "cell 0 0 0", "cell 0 -1 0", "cell 0 2 0",
-            "cell 0 61/60 0", "cell 1/2 1 0", "cell -1 1 0", "cell -0 1 0", "cell 00 1 0", "cell 0/1 1 0", "cell 0 1/1 0", "cell 0 01 0",
-            "cell 0 2/4 0", "cell 0 1/ 0", "cell 0 /2 0", "cell 0 0.5 0", "cell 0 1/-2 0", "cell 0 1/0 0", "cell 0 x 0", "cells 0 1 0",
-            "cell 0 1 0 0", "route x 0 1 0 1", f"cell 0 1/{10 * MOST} 0", "cell 0 1 0\t",
+            "cell 0 1",
+            "cell 0 1 0 ",
+            " cell 0 1 0",
+            "cell  0 1 0",
+            "cell 0 1  0",
+            "cell 0 1 ",
+            "cell 0 1 1",
+            "cell 0 1 10",
+            "cell 0 1 001",
+            "cell 0 1 00000",
+            "cell 0 1 02",
+            "cell 0 1 0a",
+            "cell 0 1 " + "0" * 128,
+            "cell 0 0 0",
+            "cell 0 -1 0",
+            "cell 0 2 0",
+            "cell 0 61/60 0",
+            "cell 1/2 1 0",
+            "cell -1 1 0",
+            "cell -0 1 0",
+            "cell 00 1 0",
+            "cell 0/1 1 0",
+            "cell 0 1/1 0",
+            "cell 0 01 0",
+            "cell 0 2/4 0",
+            "cell 0 1/ 0",
+            "cell 0 /2 0",
+            "cell 0 0.5 0",
+            "cell 0 1/-2 0",
+            "cell 0 1/0 0",
+            "cell 0 x 0",
+            "cells 0 1 0",
+            "cell 0 1 0 0",
+            "route x 0 1 0 1",
+            f"cell 0 1/{10 * MOST} 0",
+            "cell 0 1 0\t",
         ):
             self.assert_no_chart(lines("rounds 1", cell, "cell 1/2 1 0"), 2)
         self.assert_no_chart(lines("rounds 1", f"cell 0 1/{MOST} 0"), 3)
 
     def test_wrong_routes(self):
         for route in (
-            "route x 0 1 0", "route x 0 1 0 1 ", "route x 0 1 0 1 1", "route  x 0 1 0 1", " route x 0 1 0 1", "routes x 0 1 0 1",
-            "route X 0 1 0 1", "route self 0 1 0 1", "route abcdefghi 0 1 0 1", "route x1 0 1 0 1", "route 0 1 0 1",
-            "route x 1/2 1 0 1", "route x +1 1 0 1", "route x -0 1 0 1", "route x 00 1 0 1", "route x  1 0 1", "route x y 1 0 1",
-            "route x 0 0 0 1", "route x 0 -0 0 1", "route x 0 2/2 0 1", "route x 0 1.5 0 1", "route x 0 1 -0 1", "route x 0 1 x 1",
-            "route x 0 1 0/1 1", "route x 0 1 0 0", "route x 0 1 0 -1", "route x 0 1 0 -1/2", "route x 0 1 0 4/2", "cell 0 1 01",
-            f"route x {10**60} 1 0 1", f"route x 0 {10**60} 0 1", f"route x 0 1 1/{10**60} 1", f"route x 0 1 0 {10**60}",
+            "route x 0 1 0",
+            "route x 0 1 0 1 ",
+            "route x 0 1 0 1 1",
+            "route  x 0 1 0 1",
+            " route x 0 1 0 1",
+            "routes x 0 1 0 1",
+            "route X 0 1 0 1",
+            "route self 0 1 0 1",
+            "route abcdefghi 0 1 0 1",
+            "route x1 0 1 0 1",
+            "route 0 1 0 1",
+            "route x 1/2 1 0 1",
+            "route x +1 1 0 1",
+            "route x -0 1 0 1",
+            "route x 00 1 0 1",
+            "route x  1 0 1",
+            "route x y 1 0 1",
+            "route x 0 0 0 1",
+            "route x 0 -0 0 1",
+            "route x 0 2/2 0 1",
+            "route x 0 1.5 0 1",
+            "route x 0 1 -0 1",
+            "route x 0 1 x 1",
+            "route x 0 1 0/1 1",
+            "route x 0 1 0 0",
+            "route x 0 1 0 -1",
+            "route x 0 1 0 -1/2",
+            "route x 0 1 0 4/2",
+            "cell 0 1 01",
+            f"route x {10**60} 1 0 1",
+            f"route x 0 {10**60} 0 1",
+            f"route x 0 1 1/{10**60} 1",
+            f"route x 0 1 0 {10**60}",
         ):
             self.assert_no_chart(lines("rounds 1", "cell 0 1 01", route), 3)
+
+    def test_any_number_of_routes(self):
+        for many in range(7):
+            routes = [f"route x {k} 1 0 1" for k in range(many)]
+            rows = ["rounds 1", f"cell 0 1 {'0' * (2**many - 1)}{'1' if many else '0'}", *routes]
+            self.assert_read(lines(*rows), *rows)
+            self.assert_no_chart(lines(*rows[:-1]), many + 2)
+            self.assert_no_chart(lines(*rows, "route x 9 1 0 1"), many + 3)
 
     def test_six_routes_and_no_more(self):
         routes = [f"route x {k} 1 0 1" for k in range(7)]
@@ -404,7 +545,9 @@ class Read(unittest.TestCase):
             rows.append(f"cell {moment(begin)} {moment(end)} 0" + "".join(die.choice("01") for _ in range(62)) + "1")
             for k in range(6):
                 slope = Moment(die.choice([-1, 1]) * die.randrange(1, LONG), die.randrange(1, LONG))
-                rows.append(f"route {die.choice('xy')} {die.randrange(-3, 3)} {slope} {Moment(k, die.randrange(1, LONG))} {abs(slope)}")
+                rows.append(
+                    f"route {die.choice('xy')} {die.randrange(-3, 3)} {slope} {Moment(k, die.randrange(1, LONG))} {abs(slope)}"
+                )
         told = Chart.read(lines(*rows))
         self.assertEqual((told.rounds, len(told.cells)), (48, 300))
         self.assertEqual(Chart.read(str(told)), told)

@@ -111,6 +111,29 @@ class ErrorClasses(unittest.TestCase):
         error.ring.append("d")
         self.assertEqual(ring, ["a", "b", "c"])
 
+    def test_lists_and_dicts_may_change_later(self):
+        for name, attributes in ATTRIBUTES.items():
+            values = [[1, [place], {"a": [place]}] for place in range(len(attributes))]
+            tables = [{"a": place, "b": [place], (1, 2): {3: 4}} for place in range(len(attributes))]
+            listed = getattr(errors, name)(*values)
+            told = getattr(errors, name)(*tables)
+            for value, table in zip(values, tables):
+                value[1].append(9)
+                value[2]["a"].append(9)
+                value.append(9)
+                table["b"].append(9)
+                table[1, 2][5] = 6
+                table["c"] = 9
+            for place, attribute in enumerate(attributes):
+                with self.subTest(name=name, attribute=attribute):
+                    self.assertEqual(getattr(listed, attribute), [1, [place], {"a": [place]}])
+                    self.assertEqual(getattr(told, attribute), {"a": place, "b": [place], (1, 2): {3: 4}})
+
+    def test_other_values_stay_themselves(self):
+        for value in (("a", [1]), Moment(1, 2), "text", 10**60, None, errors.NoTurns()):
+            self.assertIs(errors.BadPace(value).pace, value)
+            self.assertIs(errors.NoMark(5, value, 7).begin, value)
+
 
 if __name__ == "__main__":
     unittest.main()

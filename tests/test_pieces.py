@@ -47,7 +47,24 @@ class Names(unittest.TestCase):
             self.assertEqual(piece.holes, [name])
 
     def test_no_names(self):
-        for name in ("", "abcdefghi", "self", "A", "aB", "a1", "a b", " a", "a\n", "\t", "_", "a-b", "a.b", "x" * 1000, "`", "{"):
+        for name in (
+            "",
+            "abcdefghi",
+            "self",
+            "A",
+            "aB",
+            "a1",
+            "a b",
+            " a",
+            "a\n",
+            "\t",
+            "_",
+            "a-b",
+            "a.b",
+            "x" * 1000,
+            "`",
+            "{",
+        ):
             with self.assertRaises(NoName) as caught:
                 Piece.named(name)
             self.assertEqual(caught.exception.name, name)
@@ -220,7 +237,11 @@ class Choices(unittest.TestCase):
 
     def test_no_step(self):
         for step in (0, -1, -LONG):
-            for wrong in (lambda: X.every(step, Y), lambda: X.nth(3, step), lambda: Piece.silence().every(step, Y, first=5)):
+            for wrong in (
+                lambda: X.every(step, Y),
+                lambda: X.nth(3, step),
+                lambda: Piece.silence().every(step, Y, first=5),
+            ):
                 with self.assertRaises(NoStep) as caught:
                     wrong()
                 self.assertEqual(caught.exception.step, step)
@@ -234,7 +255,8 @@ class Choices(unittest.TestCase):
         before = [Mark(k, k, k + 1) for k in range(-5, 0)]
         self.assertEqual(played(turns(X, Y), -3, 0, before, STEPS), ["-1 -2 -1 -2 -1"])
         self.assertEqual(
-            played(turns(X, X, X), -4, 0, before), ["-2 -4 -3 -4 -3", "-1 -3 -2 -3 -2", "-1 -2 -1 -2 -1", "-1 -1 0 -1 0"]
+            played(turns(X, X, X), -4, 0, before),
+            ["-2 -4 -3 -4 -3", "-1 -3 -2 -3 -2", "-1 -2 -1 -2 -1", "-1 -1 0 -1 0"],
         )
 
     def test_no_turns(self):
@@ -266,7 +288,12 @@ class Filled(unittest.TestCase):
     def test_unfilled(self):
         tune = Tune.empty()
         piece = Piece.named("b") | Piece.named("a") | Piece.named("c")
-        for tunes, name in (({}, "a"), ({"a": tune}, "b"), ({"a": tune, "b": tune, "d": tune}, "c"), ({"c": tune, "b": tune}, "a")):
+        for tunes, name in (
+            ({}, "a"),
+            ({"a": tune}, "b"),
+            ({"a": tune, "b": tune, "d": tune}, "c"),
+            ({"c": tune, "b": tune}, "a"),
+        ):
             with self.assertRaises(Unfilled) as caught:
                 piece.filled(**tunes)
             self.assertEqual(caught.exception.name, name)
@@ -335,7 +362,9 @@ class Over(unittest.TestCase):
 
     def test_far_away(self):
         mark = Mark(1, LONG, LONG + 2)
-        self.assertEqual(played(X >> 60, LONG + 50, LONG + 70, [mark]), [f"1 {LONG + 60} {LONG + 62} {LONG + 60} {LONG + 62}"])
+        self.assertEqual(
+            played(X >> 60, LONG + 50, LONG + 70, [mark]), [f"1 {LONG + 60} {LONG + 62} {LONG + 60} {LONG + 62}"]
+        )
         self.assertEqual(played(-X, LONG, LONG + 1, [mark]), [f"1 {LONG - 1} {LONG + 1} {LONG} {LONG + 1}"])
         self.assertEqual(played(X.nth(LONG, 2), 0, 1, [mark]), ["1 0 2 0 1"])
 

@@ -72,14 +72,42 @@ class Form(unittest.TestCase):
         self.assert_form(Tune(2, [Mark(1, 0, 1), Mark(1, 1, 2)]), 1, ["1 0 1 0 1"])
         self.assert_form(Tune(6, [Mark(1, k, k + 1) for k in (4, 0, 2)]), 2, ["1 0 1 0 1"])
         self.assert_form(Tune(6, [Mark(1, k, k + 1) for k in (1, 4)]), 3, ["1 1 2 1 2"])
-        self.assert_form(Tune(6, [Mark(1, k, k + 1) for k in (0, 1, 3, 5)]), 6, [f"1 {k} {k + 1} {k} {k + 1}" for k in (0, 1, 3, 5)])
-        self.assert_form(Tune(48, [Mark(k % 3, k, k + 2) for k in range(48)]), 3, ["0 0 2 0 2", "1 1 3 1 3", "2 2 4 2 4"])
+        self.assert_form(
+            Tune(6, [Mark(1, k, k + 1) for k in (0, 1, 3, 5)]), 6, [f"1 {k} {k + 1} {k} {k + 1}" for k in (0, 1, 3, 5)]
+        )
+        self.assert_form(
+            Tune(48, [Mark(k % 3, k, k + 2) for k in range(48)]), 3, ["0 0 2 0 2", "1 1 3 1 3", "2 2 4 2 4"]
+        )
+
+    def test_rounds_in_which_one_thing_alone_differs(self):
+        first = Mark(1, 0, 3, stop=HALF)
+        for second in (
+            Mark(2, 1, 4, start=1, stop=Moment(3, 2)),
+            Mark(1, 1, 4, start=1, stop=Moment(4, 3)),
+            Mark(1, 1, 5, start=1, stop=Moment(3, 2)),
+            Mark(1, 0, 4, start=1, stop=Moment(3, 2)),
+            Mark(1, Moment(4, 3), Moment(13, 3), start=Moment(4, 3), stop=Moment(11, 6)),
+        ):
+            tune = Tune(
+                4,
+                [
+                    first,
+                    second,
+                    *[
+                        Mark(m.tone, m.begin + 2, m.end + 2, start=m.start + 2, stop=m.stop + 2)
+                        for m in (first, second)
+                    ],
+                ],
+            )
+            self.assertEqual((tune.rounds, tune.marks), (2, [first, second]))
 
     def test_rounds_stay_whole(self):
         self.assert_form(Tune(1, [Mark(1, 0, HALF), Mark(1, HALF, 1)]), 1, ["1 0 1/2 0 1/2", "1 1/2 1 1/2 1"])
         halves = [Mark(1, Moment(k, 2), Moment(k + 1, 2)) for k in range(8)]
         self.assert_form(Tune(4, halves), 1, ["1 0 1/2 0 1/2", "1 1/2 1 1/2 1"])
-        self.assert_form(Tune(3, [Mark(1, 0, 1), Mark(1, Moment(3, 2), Moment(5, 2))]), 3, ["1 0 1 0 1", "1 3/2 5/2 3/2 5/2"])
+        self.assert_form(
+            Tune(3, [Mark(1, 0, 1), Mark(1, Moment(3, 2), Moment(5, 2))]), 3, ["1 0 1 0 1", "1 3/2 5/2 3/2 5/2"]
+        )
 
     def test_the_order_of_marks(self):
         ordered = [
@@ -374,7 +402,14 @@ class Operators(unittest.TestCase):
                 piece = build((kind, ("hole", "x"), ("hole", "y")))
                 self.assertEqual(trees[kind](x, y), piece.filled(x=x, y=y))
             piece = build(("hole", "x"))
-            for lead in (lambda a: -a, lambda a: a << Moment(2, 3), lambda a: a >> 3, lambda a: a * Moment(3, 2), lambda a: a // 3, lambda a: 2 + a):
+            for lead in (
+                lambda a: -a,
+                lambda a: a << Moment(2, 3),
+                lambda a: a >> 3,
+                lambda a: a * Moment(3, 2),
+                lambda a: a // 3,
+                lambda a: 2 + a,
+            ):
                 self.assertEqual(lead(x), lead(piece).filled(x=x))
 
 
