@@ -94,7 +94,7 @@ def _allowed(given):
     vectors = []
     for number in range(len(table)):
         if table[number] == "0":
-            vectors.append([hole for place, hole in enumerate(holes) if number >> place & 1])
+            vectors.append([hole for place, hole in enumerate(holes) if (number >> place) & 1])
     return holes, vectors
 
 
@@ -108,7 +108,7 @@ def _points(routes, table, holes, vectors):
     for place, route in enumerate(routes):
         groups.setdefault(_point_key(route), []).append(place)
     choices = [_choices(groups[key], routes, vectors) for key in groups]
-    masks = [sum([1 << place for place in groups[key] if routes[place][0] in holes]) for key in groups]
+    masks = [_mask(groups[key], routes, holes) for key in groups]
     for number in range(len(table)):
         if table[number] == "1" and all([number & mask in bits for mask, bits in zip(masks, choices)]):
             return [
@@ -128,15 +128,20 @@ def _choices(places, routes, vectors):
     """For each choice that counts of the routes at a point that find a mark: a list of all holes to show it."""
     choices = {}
     for vector in vectors:
-        choices[sum([1 << place for place in places if routes[place][0] in vector])] = vector
+        choices[_mask(places, routes, vector)] = vector
     return choices
+
+
+def _mask(places, routes, holes):
+    """The sum of 2 ** place for the places of routes of the holes."""
+    return sum([1 << place for place in places if routes[place][0] in holes])
 
 
 def _point(places, routes, number, holes, vector):
     """The point of some routes, when the routes of the number find a mark."""
     shown = {hole: hole in vector for hole in holes}
     for place in places:
-        shown[routes[place][0]] = number >> place & 1 == 1
+        shown[routes[place][0]] = (number >> place) & 1 == 1
     _, up, slope, speed, lag = routes[places[0]]
     return up, slope, speed, lag, shown
 

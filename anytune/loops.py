@@ -107,8 +107,8 @@ def _keys(cells, wrapped):
     """A key for each longest cell of endless time, in order; wrapped if the last one goes on in the first."""
     parts = [(end - begin, routes, table) for begin, end, routes, table in cells]
     if wrapped:
-        length, routes, table = parts[-1]
-        parts = [*parts[1:-1], (length + parts[0][0], routes, table)]
+        last = parts[-1]
+        parts = parts[1:-1] + [(last[0] + parts[0][0], last[1], last[2])]
     return [
         (length.top, length.bottom, table, tuple([_route_key(route) for route in routes]))
         for length, routes, table in parts
