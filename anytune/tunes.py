@@ -115,7 +115,7 @@ def _led_tune(loop, tune):
 
 def _covers(own, mark, rounds):
     """Whether a longest part of a tune and its repetitions show a mark throughout its part."""
-    shift = mark.begin - own.begin
-    if own.tone != mark.tone or own.end + shift != mark.end or shift % rounds != 0:
+    if own.tone != mark.tone or own.end - own.begin != mark.end - mark.begin:
         return False
-    return own.start + shift <= mark.start and mark.stop <= own.stop + shift
+    shift = mark.begin - own.begin
+    return shift % rounds == 0 and own.start + shift <= mark.start and mark.stop <= own.stop + shift
