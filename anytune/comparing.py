@@ -1,6 +1,7 @@
 """Comparing pieces for all fillings of their holes."""
 
 from anytune.errors import NotPlain
+from anytune.images import mark_image
 from anytune.loops import overlaid, same_loop, silent_loop
 from anytune.marks import Mark
 from anytune.moments import Moment
@@ -156,24 +157,14 @@ def _parted(finding, names):
         start = begin + span * trial
         first = start + room.over(trial + 5)
         mark = Mark(0, first, first + room.over(2))
-        images = [_image(mark, point[:4], start) for point in points]
+        images = [mark_image(mark, point[:4], start) for point in points]
         for rounds in range(1, 8 * trial + 16):
             filling = _filling(points, images, names, rounds)
             if _holds(points, images, filling):
-                found = [_image(mark, route[1:], start) in filling[route[0]] for route in routes]
+                found = [mark_image(mark, route[1:], start) in filling[route[0]] for route in routes]
                 number = sum([1 << place for place, one in enumerate(found) if one])
                 return Parting(first + room.over(5), mark, filling, table[number] == "1")
         trial = trial + 1
-
-
-def _image(mark, way, start):
-    """The mark that has to be shown by a filling, for a way (up, slope, speed, lag) in the cell from start on."""
-    up, slope, speed, lag = way
-    first = lag + speed * start + slope * (mark.begin - start)
-    last = first + slope * (mark.end - mark.begin)
-    if slope < 0:
-        return Mark(mark.tone - up, last, first)
-    return Mark(mark.tone - up, first, last)
 
 
 def _filling(points, images, names, rounds):

@@ -3,9 +3,11 @@
 A filling is a pair (span, rows): longest parts in order that repeat after the span, or never if it is 0.
 """
 
+from anytune.images import image_of
 from anytune.loops import settled, unrolled, window_cells
 from anytune.moments import Moment
-from anytune.rows import longest, mark_key, moved
+from anytune.rows import longest, mark_key, moved, rejoined
+from anytune.stretches import united
 from anytune.tables import needed, spread
 from anytune.times import ascending, common_span, earlier, first_from, in_order, later
 
@@ -29,6 +31,16 @@ def played(loop, fillings):
 def overheard(loop, fillings, low, high):
     """The rows of the reading in [low, high) of a loop that is filled with recordings."""
     return longest(_cell_rows(window_cells(loop, low, high), fillings))
+
+
+def replayed(loop, records, low, high):
+    """The longest parts in [low, high) of a loop that is filled with records, in any order."""
+    cells = window_cells(loop, low, high)
+    fillings = {}
+    for hole, found in _images(cells, records).items():
+        parts = united(ascending([(start, stop) for start, stop, _, _, _ in found]))
+        fillings[hole] = (Moment(0), records[hole].heard_in(parts))
+    return rejoined(_cell_rows(cells, fillings))
 
 
 def _without_silence(loop, fillings):
@@ -89,8 +101,8 @@ def _cell_rows(cells, fillings):
     images = _images(cells, fillings)
     for hole in images:
         span, rows = fillings[hole]
-        for (_, _, number, bit), row, shift in _meetings(images[hole], rows, span):
-            part = _part_in_cell(cells[number], bit, row, shift)
+        for (_, _, number, bit, offset), row, shift in _meetings(images[hole], rows, span):
+            part = _part_in_cell(cells[number], bit, row, offset - shift if span else offset)
             found.setdefault((number, *mark_key(part)), []).append((part, bit))
     out = []
     for key in found:
@@ -99,14 +111,17 @@ def _cell_rows(cells, fillings):
 
 
 def _images(cells, fillings):
-    """For each hole the stretches to which routes lead cells, as tuples (low, high, number of the cell, bit)."""
+    """For each hole the stretches to which routes lead cells.
+
+    They are tuples (low, high, number of the cell, bit, offset); the route leads v to slope * v + offset.
+    """
     images = {}
     for number, (begin, end, routes, _) in enumerate(cells):
-        for bit, (hole, _, slope, speed, lag) in enumerate(routes):
-            if hole in fillings:
-                first = lag + speed * begin
-                last = first + slope * (end - begin)
-                images.setdefault(hole, []).append((earlier(first, last), later(first, last), number, bit))
+        for bit, route in enumerate(routes):
+            if route[0] in fillings:
+                hole, _, slope, speed, lag = route
+                offset = lag + (speed - slope) * begin
+                images.setdefault(hole, []).append((*image_of(begin, end, route), number, bit, offset))
     return images
 
 
@@ -135,10 +150,12 @@ def _home(time, span):
 
 def _hits(points, low, high, span):
     """All (place, shift) such that the point at the place, moved by the shift, lies in [low, high)."""
+    if not span:
+        return [(place, span) for place in range(first_from(points, low), first_from(points, high))]
     out = []
-    shift = span * (low // span) if span else span
+    shift = span * (low // span)
     place = first_from(points, low - shift)
-    while place < len(points) or (span and points):
+    while points:
         if place == len(points):
             place = 0
             shift = shift + span
@@ -149,11 +166,10 @@ def _hits(points, low, high, span):
     return out
 
 
-def _part_in_cell(cell, bit, row, shift):
-    """The part of a row moved by the shift that a route of the cell shows in it."""
+def _part_in_cell(cell, bit, row, offset):
+    """The part of a row that a route of the cell, which leads v to slope * v + offset, shows in it."""
     low, high, routes, _ = cell
-    _, up, slope, speed, lag = routes[bit]
-    offset = lag + (speed - slope) * low - shift
+    _, up, slope, _, _ = routes[bit]
     start, stop, begin, end, tone = _led_back(row, up, slope, offset)
     return later(start, low), earlier(stop, high), begin, end, tone
 

@@ -8,7 +8,7 @@ each of them matters to the table.
 
 from anytune.moments import Moment
 from anytune.tables import combined
-from anytune.times import common_span, earlier, later, least_turn
+from anytune.times import common_span, earlier, first_from, later, least_turn
 
 
 class Loop:
@@ -64,10 +64,13 @@ def window_cells(loop, low, high):
     if loop.steady:
         return [(low, high, routes, table) for _, _, routes, table in loop.cells if low < high]
     out = []
+    begins = [cell[0] for cell in loop.cells]
+    ends = [cell[1] for cell in loop.cells]
     for turn in range(low // loop.span, -(-high // loop.span)):
         moved = loop.span * turn
-        cells = [(begin + moved, end + moved, routes, table) for begin, end, routes, table in loop.cells]
-        out.extend(restricted(cells, low, high))
+        cells = loop.cells[first_from(ends, low - moved):first_from(begins, high - moved)]
+        placed = [(begin + moved, end + moved, routes, table) for begin, end, routes, table in cells]
+        out.extend(restricted(placed, low, high))
     return out
 
 

@@ -54,52 +54,59 @@ class Moment:
         return isinstance(other, int) and self.bottom == 1 and self.top == other
 
     def __lt__(self, other):
-        if not is_time(other):
-            return NotImplemented
-        time = as_moment(other)
-        return self.top * time.bottom < time.top * self.bottom
+        if isinstance(other, Moment):
+            return self.top * other.bottom < other.top * self.bottom
+        if isinstance(other, int):
+            return self.top < other * self.bottom
+        return NotImplemented
 
     def __le__(self, other):
-        if not is_time(other):
-            return NotImplemented
-        time = as_moment(other)
-        return self.top * time.bottom <= time.top * self.bottom
+        if isinstance(other, Moment):
+            return self.top * other.bottom <= other.top * self.bottom
+        if isinstance(other, int):
+            return self.top <= other * self.bottom
+        return NotImplemented
 
     def __gt__(self, other):
-        if not is_time(other):
-            return NotImplemented
-        time = as_moment(other)
-        return self.top * time.bottom > time.top * self.bottom
+        if isinstance(other, Moment):
+            return self.top * other.bottom > other.top * self.bottom
+        if isinstance(other, int):
+            return self.top > other * self.bottom
+        return NotImplemented
 
     def __ge__(self, other):
-        if not is_time(other):
-            return NotImplemented
-        time = as_moment(other)
-        return self.top * time.bottom >= time.top * self.bottom
+        if isinstance(other, Moment):
+            return self.top * other.bottom >= other.top * self.bottom
+        if isinstance(other, int):
+            return self.top >= other * self.bottom
+        return NotImplemented
 
     def __add__(self, other):
-        if not is_time(other):
-            return NotImplemented
-        time = as_moment(other)
-        return Moment(self.top * time.bottom + time.top * self.bottom, self.bottom * time.bottom)
+        if isinstance(other, Moment):
+            return Moment(self.top * other.bottom + other.top * self.bottom, self.bottom * other.bottom)
+        if isinstance(other, int):
+            return Moment(self.top + other * self.bottom, self.bottom)
+        return NotImplemented
 
     def __radd__(self, other):
         return as_moment(other) + self
 
     def __sub__(self, other):
-        if not is_time(other):
-            return NotImplemented
-        time = as_moment(other)
-        return Moment(self.top * time.bottom - time.top * self.bottom, self.bottom * time.bottom)
+        if isinstance(other, Moment):
+            return Moment(self.top * other.bottom - other.top * self.bottom, self.bottom * other.bottom)
+        if isinstance(other, int):
+            return Moment(self.top - other * self.bottom, self.bottom)
+        return NotImplemented
 
     def __rsub__(self, other):
         return as_moment(other) - self
 
     def __mul__(self, other):
-        if not is_time(other):
-            return NotImplemented
-        time = as_moment(other)
-        return Moment(self.top * time.top, self.bottom * time.bottom)
+        if isinstance(other, Moment):
+            return Moment(self.top * other.top, self.bottom * other.bottom)
+        if isinstance(other, int):
+            return Moment(self.top * other, self.bottom)
+        return NotImplemented
 
     def __rmul__(self, other):
         return as_moment(other) * self

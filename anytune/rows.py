@@ -1,6 +1,7 @@
 """Rows: marks and their parts as tuples (start, stop, begin, end, tone), which stand in the order of readings."""
 
 from anytune.marks import Mark
+from anytune.stretches import united
 from anytune.times import ascending, earlier, in_order, later, least_turn
 
 
@@ -28,26 +29,21 @@ def mark_key(row):
 
 def longest(rows):
     """The longest parts that the rows make up, in order."""
+    return in_order(rejoined(rows))
+
+
+def rejoined(rows):
+    """The longest parts that the rows make up, in any order."""
     parts = {}
-    marks = {}
     for row in rows:
-        key = mark_key(row)
-        parts.setdefault(key, []).append((row[0], row[1]))
-        marks[key] = row[2:]
+        parts.setdefault(mark_key(row), []).append(row)
     out = []
-    for key in parts:
-        out.extend([(start, stop, *marks[key]) for start, stop in _united(parts[key])])
-    return in_order(out)
-
-
-def _united(parts):
-    """The parts, with those joined that overlap or touch."""
-    out = []
-    for start, stop in ascending(parts):
-        if out and start <= out[-1][1]:
-            out[-1] = (out[-1][0], later(out[-1][1], stop))
+    for same in parts.values():
+        if len(same) == 1:
+            out.extend(same)
         else:
-            out.append((start, stop))
+            stretches = united(ascending([row[:2] for row in same]))
+            out.extend([(start, stop, *same[0][2:]) for start, stop in stretches])
     return out
 
 

@@ -17,6 +17,22 @@ def later(first, second):
     return first if first >= second else second
 
 
+def greatest(times):
+    """The greatest of some times."""
+    found = times[0]
+    for time in times:
+        found = later(found, time)
+    return found
+
+
+def least(times):
+    """The least of some times."""
+    found = times[0]
+    for time in times:
+        found = earlier(found, time)
+    return found
+
+
 def common_span(first, second):
     """The least moment that is a multiple of both, which are greater than 0."""
     return Moment(lcm(first.top, second.top), gcd(first.bottom, second.bottom))
@@ -47,13 +63,26 @@ def _merged(first, second):
 
 def in_order(rows):
     """The rows, tuples with a moment in front, in ascending order."""
-    # Long lists are put into boxes first, since integers are ordered faster than moments.
-    boxes = {}
+    out = []
+    for group in grouped(rows):
+        out.extend(ascending(group))
+    return out
+
+
+def grouped(rows):
+    """The rows, tuples with a moment in front, as lists of those that have the same one, in its order."""
+    groups = {}
     for row in rows:
-        boxes.setdefault(row[0].top * BOXES_IN_A_ROUND // row[0].bottom, []).append(row)
+        groups.setdefault((row[0].top, row[0].bottom), []).append(row)
+    # They are put into boxes first, since integers are ordered faster than moments.
+    boxes = {}
+    for group in groups.values():
+        time = group[0][0]
+        boxes.setdefault(time.top * BOXES_IN_A_ROUND // time.bottom, []).append((time, group))
     out = []
     for box in sorted([int(key) for key in boxes]):
-        out.extend(ascending(boxes[box]))
+        # No two of these times are equal, so that the groups themselves are not compared.
+        out.extend([group for _, group in ascending(boxes[box])])
     return out
 
 

@@ -7,8 +7,9 @@ they are asked have bottoms that occur nowhere else.
 
 import random
 from fractions import Fraction
-from math import floor
+from math import ceil, floor
 
+from anytune.charts import Chart
 from anytune.marks import Mark
 from anytune.moments import Moment
 from anytune.pieces import Piece, turns
@@ -116,6 +117,68 @@ RULES = {
 }
 
 
+def chart_shows(told, fillings, t):
+    """What a chart shows at t, straight from point 18."""
+    k = floor(t / told.rounds)
+    found = {}
+    for cell in told.cells:
+        begin = fraction(cell.begin) + k * told.rounds
+        if begin <= t < fraction(cell.end) + k * told.rounds:
+            for j, route in enumerate(cell.routes):
+                s = fraction(route.slope)
+                c = fraction(route.source) + fraction(route.speed) * told.rounds * k - s * begin
+                for tone, b, e in led(fillings[route.hole](s * t + c), s, c):
+                    mark = (tone + route.up, b, e)
+                    found[mark] = found.get(mark, 0) + 2**j
+            return {mark for mark in found if cell.table[found[mark]] == "1"}
+    raise AssertionError("the cells do not cover the rounds")
+
+
+def leads_to(told, hole, u, since=None):
+    """Whether a route of the hole in a chart leads a moment of its cell, of those from since on, to u."""
+    for cell in told.cells:
+        length = fraction(cell.end) - fraction(cell.begin)
+        for route in cell.routes:
+            slope, source, step = fraction(route.slope), fraction(route.source), fraction(route.speed) * told.rounds
+            if route.hole == hole:
+                low, high = sorted([(u - source) / step, (u - source - slope * length) / step])
+                for k in range(ceil(low), floor(high) + 1):
+                    t = fraction(cell.begin) + told.rounds * k + (u - source - step * k) / slope
+                    if since is None or t >= since:
+                        return True
+    return False
+
+
+class Channels:
+    """What the channels of a deck show, straight from points 31 to 33."""
+
+    def __init__(self):
+        self.settings = {}
+        self.now = Fraction(0)
+        self.found = {}
+
+    def set(self, name, thing):
+        """Sets a channel to a pattern or to a Chart."""
+        counts_from = ceil(self.now)
+        older = [setting for setting in self.settings.get(name, []) if setting[0] != counts_from]
+        self.settings[name] = [*older, (counts_from, thing)]
+
+    def shown(self, name, t):
+        if (name, t) not in self.found:
+            self.found[name, t] = self._shown(name, t)
+        return self.found[name, t]
+
+    def _shown(self, name, t):
+        in_force = [thing for counts_from, thing in self.settings.get(name, []) if counts_from <= t]
+        if t < 0 or not in_force:
+            return set()
+        thing = in_force[-1]
+        if not isinstance(thing, Chart):
+            return thing(t)
+        holes = {route.hole for cell in thing.cells for route in cell.routes}
+        return chart_shows(thing, {hole: lambda u, hole=hole: self.shown(hole, u) for hole in holes}, t)
+
+
 def build(tree):
     """The Piece of an expression."""
     kind, *args = tree
@@ -194,6 +257,59 @@ def random_tree(dice, size, names="xy"):
         other = random_tree(dice, (size - 1) // 2, names)
         return (kind, inner, dice.choice([1, 2, 2, 3]), other, dice.randrange(-3, 4))
     return (kind, inner, dice.randrange(-3, 4), dice.choice([1, 2, 2, 3]))
+
+
+def random_chart(dice, speeds=("1",), holes="xy", routes=3):
+    """A piece of a chart that has been read, with so many routes in a cell at most."""
+    rounds = dice.choice([1, 1, 2, 3])
+    inner = {Fraction(dice.randrange(1, 4 * rounds), 4) for _ in range(dice.randrange(4))}
+    edges = [Fraction(0), *sorted(inner), Fraction(rounds)]
+    lines = [f"rounds {rounds}"]
+    for begin, end in zip(edges, edges[1:]):
+        found = []
+        many = dice.randrange(routes + 1)
+        while len(found) < many:
+            slope = dice.choice(["1", "1", "-1", "2", "-2", "1/2", "-1/2", "3"])
+            source = moment(Fraction(dice.randrange(-8, 9), dice.choice([1, 2, 4])))
+            route = f"route {dice.choice(holes)} {dice.choice([0, 0, 1])} {slope} {source} {dice.choice(speeds)}"
+            if route not in found:
+                found.append(route)
+        table = "01" if many == 1 else "0" + "".join([dice.choice("01") for _ in range(2**many - 1)])
+        lines.extend([f"cell {moment(begin)} {moment(end)} {table}", *found])
+    return Chart.read("\n".join(lines)).piece()
+
+
+def between(dice, low, high):
+    """A time between two others that lies at no edge of anything."""
+    return low + (high - low) * Fraction(dice.randrange(1, 100003 * 1009), 100003 * 1009)
+
+
+def cut(marks, low, high):
+    """The parts of Mark objects that lie in [low, high)."""
+    out = []
+    for mark in marks:
+        tone, begin, end, start, stop = mark_values(mark)
+        if max(start, low) < min(stop, high):
+            out.append(part(tone, begin, end, max(start, low), min(stop, high)))
+    return out
+
+
+def part(tone, begin, end, start, stop):
+    """A Mark object of Fractions."""
+    return Mark(tone, moment(begin), moment(end), start=moment(start), stop=moment(stop))
+
+
+def joined(marks):
+    """The reading that Mark objects make up: parts of the same mark that overlap or touch are one."""
+    parts = {}
+    for start, stop, *key in sorted([row(mark) for mark in marks]):
+        found = parts.setdefault(tuple(key), [])
+        if found and start <= found[-1][1]:
+            found[-1] = (found[-1][0], max(stop, found[-1][1]))
+        else:
+            found.append((start, stop))
+    rows = sorted([(*stretch, *key) for key in parts for stretch in parts[key]])
+    return [part(tone, begin, end, start, stop) for start, stop, begin, end, tone in rows]
 
 
 def dice(seed):

@@ -10,7 +10,7 @@ from anytune.marks import Mark
 from anytune.moments import Moment
 from anytune.pieces import Piece, turns
 from anytune.tunes import Tune
-from model import build, dice, fraction, led, moment, random_time, random_tree, random_tune, shows, tune_pattern
+from model import build, chart_shows, dice, fraction, moment, random_time, random_tree, random_tune, shows, tune_pattern
 
 HALF = Moment(1, 2)
 LONG = 10**59
@@ -21,23 +21,6 @@ Y = Piece.named("y")
 
 def lines(*rows):
     return "\n".join(rows)
-
-
-def chart_shows(told, fillings, t):
-    """What a chart shows at t, straight from point 18."""
-    k = floor(t / told.rounds)
-    found = {}
-    for cell in told.cells:
-        begin = fraction(cell.begin) + k * told.rounds
-        if begin <= t < fraction(cell.end) + k * told.rounds:
-            for j, route in enumerate(cell.routes):
-                s = fraction(route.slope)
-                c = fraction(route.source) + fraction(route.speed) * told.rounds * k - s * begin
-                for tone, b, e in led(fillings[route.hole](s * t + c), s, c):
-                    mark = (tone + route.up, b, e)
-                    found[mark] = found.get(mark, 0) + 2**j
-            return {mark for mark in found if cell.table[found[mark]] == "1"}
-    raise AssertionError("the cells do not cover the rounds")
 
 
 class ChartsOfPieces(unittest.TestCase):

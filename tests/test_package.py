@@ -25,6 +25,15 @@ INTERFACE = {
     },
     "charts": {"Route": [], "Cell": [], "Chart": ["__eq__", "__str__", "piece", "read"], "chart": []},
     "comparing": {"Parting": [], **{name: [] for name in ("alike", "within", "apart", "silent", "parting")}},
+    "pace": {"Surprise": [], **{name: [] for name in ("ahead", "lead", "heard", "needed", "surprise")}},
+    "live": {"Live": ["__init__", "hear", "kept"]},
+    "moves": {"undo": []},
+    "deck": {
+        "Deck": [
+            *["__setitem__", "__getitem__", "__contains__", "__len__", "__iadd__"],
+            *["names", "played", "change"],
+        ]
+    },
 }
 
 
@@ -35,8 +44,7 @@ def trees():
 class Package(unittest.TestCase):
     def test_package_is_found(self):
         names = [name for name, _ in trees()]
-        modules = ("errors", "moments", "marks", "tunes", "pieces", "charts", "comparing")
-        for name in ("__init__.py", *[f"{module}.py" for module in modules]):
+        for name in ("__init__.py", "errors.py", *[f"{module}.py" for module in INTERFACE]):
             self.assertIn(name, names)
 
     def test_the_interface_stands_where_the_document_lists_it(self):
