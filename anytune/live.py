@@ -24,7 +24,9 @@ class Live:
         self.now = Moment(0)
         self.shown = Moment(0)
         self.loop = piece.loop
-        self.ends = [Moment(0), *gaps(piece.loop, piece.holes)]
+        ends = [Moment(0), *gaps(piece.loop, piece.holes)]
+        self.furthest = greatest(ends)
+        self.nearest = least(ends)
         self.records = {name: Record() for name in piece.holes}
         self.limits = {name: FEW_ROWS for name in piece.holes}
 
@@ -54,8 +56,8 @@ class Live:
         if not sounding:
             return []
         # Where no route leads to what is remembered, however long that is, there is nothing to look for.
-        first = least([record.starts[0] for record in sounding]) - greatest(self.ends)
-        last = greatest([record.reaches[-1] for record in sounding]) - least(self.ends)
+        first = least([record.starts[0] for record in sounding]) - self.furthest
+        last = greatest([record.reaches[-1] for record in sounding]) - self.nearest
         return replayed(self.loop, self.records, later(low, first), earlier(high, last))
 
     def _needed_rows(self, name):

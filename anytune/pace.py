@@ -63,12 +63,16 @@ def surprise(p, delay):
     asking = []
     for cell in p.loop.cells:
         asking.extend([(cell, place) for place, route in enumerate(cell[2]) if _gap(cell, route) > delay])
-    cell, place = asking[0]
-    return _surprised(p, cell, place, delay)
+    first_cell, first_place = asking[0]
+    return _surprised(p, first_cell, first_place, delay)
 
 
 def _check_pace(p, holes):
     """Raises NoPace for the first route of the holes that has another speed than 1."""
+    # The loop has the same routes, but only the chart has them in its order.
+    speeds = [route[3] for cell in p.loop.cells for route in cell[2] if route[0] in holes]
+    if all([speed == 1 for speed in speeds]):
+        return
     for cell in chart(p).cells:
         for route in cell.routes:
             if route.hole in holes and route.speed != 1:

@@ -28,16 +28,25 @@ def waits_at_once(settings):
 def play(settings, records, low, high):
     """Adds to the records what the channels with these settings, which make no ring, show in [low, high)."""
     known = {name: low for name in settings}
+    places = {name: len(records[name].rows) for name in settings}
     order, _ = in_turn(waits_at_once(settings))
     before = _to_be_played_before(settings)
     while any([known[name] < high for name in order]):
         for name in order:
             # A channel that is not asked by those that it asks is played in one go when they are.
-            if all([known[other] == high for other in before[name]]):
-                until = _known_until(settings[name], known, high)
-                if known[name] < until:
-                    records[name].take(_shown(settings[name].thing, records, known[name], until))
-                    known[name] = until
+            if known[name] < high and all([known[other] == high for other in before[name]]):
+                _play_on(name, settings[name], records, known, high)
+                if known[name] == high:
+                    records[name].rejoin(places[name])
+
+
+def _play_on(name, setting, records, known, high):
+    """Plays a channel on, no further than high, for as long as it is known what it asks for."""
+    until = _known_until(setting, known, high)
+    while known[name] < until:
+        records[name].take(_shown(setting.thing, records, known[name], until))
+        known[name] = until
+        until = _known_until(setting, known, high)
 
 
 def _to_be_played_before(settings):

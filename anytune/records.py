@@ -1,5 +1,6 @@
 """Records: what was heard or played so far."""
 
+from anytune.rows import rejoined
 from anytune.times import first_from, grouped, later
 
 
@@ -21,6 +22,14 @@ class Record:
                 self.rows.append(row)
                 self.starts.append(row[0])
                 self.reaches.append(later(row[1], self.reaches[-1]) if self.reaches else row[1])
+
+    def rejoin(self, place):
+        """Joins the rows from a place on where the same mark goes on."""
+        rows = rejoined(self.rows[place:])
+        self.rows = self.rows[:place]
+        self.starts = self.starts[:place]
+        self.reaches = self.reaches[:place]
+        self.take(rows)
 
     def heard_in(self, parts):
         """The rows that are shown in the parts, which are ascending and do not touch."""

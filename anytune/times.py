@@ -43,7 +43,12 @@ def ascending(rows):
     if len(rows) < 2:
         return rows
     middle = len(rows) // 2
-    return _merged(ascending(rows[:middle]), ascending(rows[middle:]))
+    first = ascending(rows[:middle])
+    second = ascending(rows[middle:])
+    # Most lists are in order already.
+    if first[-1] <= second[0]:
+        return first + second
+    return _merged(first, second)
 
 
 def _merged(first, second):

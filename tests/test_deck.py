@@ -725,6 +725,18 @@ class LargeDecks(DeckCase):
             self.assertEqual(deck.played(name, 0, 60), deck.played("c", 0, 60))
         self.assertEqual(len([mark for mark in deck.played("b", 0, 60) if mark.tone == 0]), 48)
 
+    def test_long_marks_of_a_channel_that_asks_itself(self):
+        deck = Deck()
+        deck["a"] = Tune(60, [Mark(0, 0, Moment(3, 2))])
+        deck["b"] = A | (B + 1 >> Moment(1, 60))
+        for name in self.letters[2:]:
+            deck[name] = B.only(0, HALF) | (B >> HALF).only(HALF, 1)
+        self.play(deck, 4)
+        expected = [Mark(k, Moment(k, 60), Moment(k + 90, 60), stop=min(k + 90, 240) * Moment(1, 60)) for k in range(240)]
+        self.assertEqual(deck.played("b", 0, 4), expected)
+        for name in "cl":
+            self.assertEqual(deck.played(name, 0, 4), deck["c"].over({"b": expected}, 0, 4))
+
     def test_a_chart_of_three_hundred_cells(self):
         rows = ["rounds 48"]
         for k in range(300):
